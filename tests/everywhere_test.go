@@ -2,6 +2,7 @@ package tests
 
 import (
 	"reflect"
+	"slices"
 	"strings"
 	"testing"
 	"unsafe"
@@ -52,13 +53,7 @@ func TestParseGivesNewMemory(t *testing.T) {
 	var lists, texts []region
 	regions(reflect.ValueOf(p), &lists, &texts)
 	regions(reflect.ValueOf(q), &lists, &texts)
-	for i, a := range lists {
-		for _, b := range lists[:i] {
-			if a.meets(b) {
-				t.Fatal("two lists share memory")
-			}
-		}
-	}
+	wantApart(t, lists)
 	for _, a := range texts {
 		if a.meets(textRegion(src)) {
 			t.Fatal("a name lies in the source")
@@ -66,19 +61,57 @@ func TestParseGivesNewMemory(t *testing.T) {
 	}
 }
 
-func TestArgumentsStay(t *testing.T) {
-	for seed := range int64(200) {
-		p := newMaker(seed).program()
-		before := copied(p)
-		impl.ShapeOK(p)
-		text := impl.Print(p)
-		if !sameProgram(p, before) {
-			t.Fatal("the program was written into")
-		}
-		if impl.Print(p) != text || impl.Print(before) != text {
-			t.Fatal("another text the second time")
+func wantApart(t *testing.T, lists []region) {
+	t.Helper()
+	for i, a := range lists {
+		for _, b := range lists[:i] {
+			if a.meets(b) {
+				t.Fatal("two lists share memory")
+			}
 		}
 	}
+}
+
+func TestRunGivesNewMemory(t *testing.T) {
+	p := parsed(t, "node f(x: int) returns (y: int; z: int) let y = x; z = 0 fby x; tel")
+	rows := [][]int{{1}, {2}, {3}}
+	first, _ := impl.Run(p, "f", rows)
+	second, _ := impl.Run(p, "f", rows)
+	var lists, texts []region
+	for _, answer := range [][][]int{rows, first, second} {
+		regions(reflect.ValueOf(answer), &lists, &texts)
+	}
+	wantApart(t, lists)
+}
+
+func TestArgumentsStay(t *testing.T) {
+	for seed := range int64(200) {
+		m := newMaker(seed)
+		p := m.program()
+		if seed%2 == 0 {
+			p = passing(seed)
+		}
+		before := copied(p)
+		rows := m.rowsFor(p.Nodes[0], 5)
+		rowsBefore := slices.Clone(rows)
+		for i, row := range rows {
+			rowsBefore[i] = slices.Clone(row)
+		}
+		answers := answersTo(p, rows)
+		if !sameProgram(p, before) || !sameRows(rows, rowsBefore) {
+			t.Fatal("an argument was written into")
+		}
+		if !reflect.DeepEqual(answersTo(p, rows), answers) || !reflect.DeepEqual(answersTo(before, rowsBefore), answers) {
+			t.Fatal("another answer the second time")
+		}
+	}
+}
+
+// answersTo gives what all functions answer.
+func answersTo(p impl.Program, rows [][]int) []any {
+	code, node, place := impl.Check(p)
+	out, runCode := impl.Run(p, p.Nodes[0].Name, rows)
+	return []any{impl.ShapeOK(p), impl.Print(p), impl.Weight(p, 0), code, node, place, out, runCode}
 }
 
 func TestConstants(t *testing.T) {
@@ -89,11 +122,16 @@ func TestConstants(t *testing.T) {
 		impl.OpInt, impl.OpBool, impl.OpVar, impl.OpNeg, impl.OpNot, impl.OpAdd, impl.OpSub, impl.OpMul, impl.OpDiv, impl.OpMod,
 		impl.OpEq, impl.OpNe, impl.OpLt, impl.OpLe, impl.OpGt, impl.OpGe, impl.OpAnd, impl.OpOr, impl.OpXor, impl.OpIf,
 		impl.OpFby, impl.OpFbyB, impl.OpWhen, impl.OpMerge, impl.OpMem,
+		impl.MaxWeight, impl.MaxRows,
+		impl.CheckOK, impl.CheckShape, impl.CheckName, impl.CheckDecl, impl.CheckDef, impl.CheckCall, impl.CheckType, impl.CheckClock,
+		impl.CheckCycle, impl.CheckWeight,
+		impl.RunOK, impl.RunCheck, impl.RunName, impl.RunRow,
 	}
 	want := []int{20000, 40, 2147483647, 200, 500, 500, 3000, 8, 1, 2, 0, 1, 2, 3, 4}
 	for o := 1; o <= 25; o++ {
 		want = append(want, o)
 	}
+	want = append(want, 20000, 1000, 0, 1, 2, 3, 4, 5, 6, 7, 8, 9, 0, 1, 2, 3)
 	if !reflect.DeepEqual(got, want) {
 		t.Error(got)
 	}
