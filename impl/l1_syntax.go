@@ -601,8 +601,11 @@ func portOK(v Var) bool {
 }
 
 func varOK(v Var) bool {
-	return nameOK(v.Name) && (v.Type == TypeInt || v.Type == TypeBool) && len(v.Clock) <= MaxClock &&
-		every(v.Clock, condOK)
+	return nameOK(v.Name) && typeOK(v.Type) && len(v.Clock) <= MaxClock && every(v.Clock, condOK)
+}
+
+func typeOK(t int) bool {
+	return t == TypeInt || t == TypeBool
 }
 
 func condOK(c Cond) bool {
@@ -729,14 +732,18 @@ func declsText(vars []Var) string {
 }
 
 func declText(v Var) string {
-	text := v.Name + ": int"
-	if v.Type == TypeBool {
-		text = v.Name + ": bool"
-	}
+	text := v.Name + ": " + typeText(v.Type)
 	for _, c := range v.Clock {
 		text += condText(c)
 	}
 	return text
+}
+
+func typeText(t int) string {
+	if t == TypeBool {
+		return "bool"
+	}
+	return "int"
 }
 
 func condText(c Cond) string {

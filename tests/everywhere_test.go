@@ -84,6 +84,59 @@ func TestRunGivesNewMemory(t *testing.T) {
 	wantApart(t, lists)
 }
 
+func TestMachinesGiveNewMemory(t *testing.T) {
+	m := everything()
+	text := strings.Clone(impl.PrintMachine(m))
+	first, _ := impl.ReadMachine(text)
+	second, _ := impl.ReadMachine(text)
+	state, ins := impl.Reset(m, 1), []int{1, 1}
+	again := impl.Reset(m, 1)
+	after, outs, _ := impl.Step(m, 1, state, ins)
+	afterwards, outsAgain, _ := impl.Step(m, 1, state, ins)
+	var lists, texts []region
+	for _, machine := range []impl.Machine{first, second} {
+		regions(reflect.ValueOf(machine), &lists, &texts)
+	}
+	for _, a := range texts {
+		if a.meets(textRegion(text)) {
+			t.Fatal("a name lies in the text")
+		}
+	}
+	for _, values := range [][]int{m.Classes[0].Mems, m.Classes[1].Mems, state, again, ins, after, outs, afterwards, outsAgain} {
+		regions(reflect.ValueOf(values), &lists, &texts)
+	}
+	wantApart(t, lists)
+}
+
+func TestMachinesAndStatesStay(t *testing.T) {
+	for seed := range int64(500) {
+		maker := newMaker(seed)
+		m := maker.machine()
+		class := maker.Intn(len(m.Classes))
+		state, ins := maker.valuesFor(m, class)
+		if seed%2 == 0 {
+			m = maker.altered(m, 1)
+		}
+		before, stateBefore, insBefore := copiedMachine(m), slices.Clone(state), slices.Clone(ins)
+		answers := machineAnswers(m, class, state, ins)
+		if !sameMachine(m, before) || !slices.Equal(state, stateBefore) || !slices.Equal(ins, insBefore) {
+			t.Fatal("an argument was written into")
+		}
+		if !reflect.DeepEqual(machineAnswers(m, class, state, ins), answers) ||
+			!reflect.DeepEqual(machineAnswers(before, class, stateBefore, insBefore), answers) {
+			t.Fatal("another answer the second time")
+		}
+	}
+}
+
+// machineAnswers gives what all functions of chapter 3 answer.
+func machineAnswers(m impl.Machine, class int, state, ins []int) []any {
+	after, outs, cost := impl.Step(m, class, state, ins)
+	text := impl.PrintMachine(m)
+	read, code := impl.ReadMachine(text)
+	return []any{impl.MachineOK(m), impl.Cells(m, class), impl.Bound(m, class), impl.Reset(m, class), after, outs, cost, text, read, code}
+}
+
 func TestArgumentsStay(t *testing.T) {
 	for seed := range int64(200) {
 		m := newMaker(seed)
@@ -107,7 +160,7 @@ func TestArgumentsStay(t *testing.T) {
 	}
 }
 
-// answersTo gives what all functions answer.
+// answersTo gives what all functions of programs answer.
 func answersTo(p impl.Program, rows [][]int) []any {
 	code, node, place := impl.Check(p)
 	out, runCode := impl.Run(p, p.Nodes[0].Name, rows)
@@ -126,12 +179,16 @@ func TestConstants(t *testing.T) {
 		impl.CheckOK, impl.CheckShape, impl.CheckName, impl.CheckDecl, impl.CheckDef, impl.CheckCall, impl.CheckType, impl.CheckClock,
 		impl.CheckCycle, impl.CheckWeight,
 		impl.RunOK, impl.RunCheck, impl.RunName, impl.RunRow,
+		impl.MaxClasses, impl.MaxSlots, impl.MaxStms, impl.MaxCode, impl.MaxCells, impl.MaxCost, impl.MaxNest,
+		impl.StmSet, impl.StmSave, impl.StmCall, impl.StmIf, impl.StmElse, impl.StmEnd,
+		impl.ReadOK, impl.ReadBad,
 	}
 	want := []int{20000, 40, 2147483647, 200, 500, 500, 3000, 8, 1, 2, 0, 1, 2, 3, 4}
 	for o := 1; o <= 25; o++ {
 		want = append(want, o)
 	}
 	want = append(want, 20000, 1000, 0, 1, 2, 3, 4, 5, 6, 7, 8, 9, 0, 1, 2, 3)
+	want = append(want, 200, 1000, 30000, 6000, 20000, 400000, 20, 1, 2, 3, 4, 5, 6, 0, 1)
 	if !reflect.DeepEqual(got, want) {
 		t.Error(got)
 	}

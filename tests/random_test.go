@@ -196,7 +196,7 @@ func parts(items itemList, count int) []itemList {
 }
 
 func arity(op int) int {
-	return []int{0, 0, 0, 0, 1, 1, 2, 2, 2, 2, 2, 2, 2, 2, 2, 2, 2, 2, 2, 2, 3, 1, 1, 1, 2}[op]
+	return []int{0, 0, 0, 0, 1, 1, 2, 2, 2, 2, 2, 2, 2, 2, 2, 2, 2, 2, 2, 2, 3, 1, 1, 1, 2, 0}[op]
 }
 
 func (w *writer) expression(items itemList, least int) {

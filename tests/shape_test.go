@@ -132,22 +132,25 @@ func named(s string) []impl.Program {
 	return list
 }
 
-func TestShapeNames(t *testing.T) {
-	good := []string{
+var (
+	goodNames = []string{
 		"x", "X", "a0", "a_", "Z_9_z", "nodes", "IF", "whenot_", strings.Repeat("a", impl.MaxName), "z" + strings.Repeat("_", impl.MaxName-1),
 		"$1", "$9", "$10", "$100000000", "$999999999",
 	}
-	bad := []string{
+	badNames = append([]string{
 		"_", "_x", "0", "1x", "x-y", "x y", " x", "x ", "x\n", "\x00", "x\x00", "\xc3\xa9", "x\xff", "x.y", "x$1", "x$",
 		strings.Repeat("a", impl.MaxName+1), strings.Repeat("a", 100000),
 		"$", "$0", "$01", "$1x", "$x", "$-1", "$+1", "$1_0", "$$1", "$ 1", "$1 ", "$1000000000", "$9999999999", "$" + strings.Repeat("1", 40),
-	}
-	for _, s := range good {
+	}, keywords...)
+)
+
+func TestShapeNames(t *testing.T) {
+	for _, s := range goodNames {
 		for i, p := range named(s) {
 			wantShape(t, []any{i, s}, p, true)
 		}
 	}
-	for _, s := range append(bad, keywords...) {
+	for _, s := range badNames {
 		for i, p := range named(s) {
 			wantShape(t, []any{i, short(s)}, p, false)
 		}
