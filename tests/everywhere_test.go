@@ -108,10 +108,61 @@ func TestMachinesGiveNewMemory(t *testing.T) {
 	wantApart(t, lists)
 }
 
+// regionsOf gives the memory of all lists within some things, and that of all strings.
+func regionsOf(things ...any) (lists, texts []region) {
+	for _, thing := range things {
+		regions(reflect.ValueOf(thing), &lists, &texts)
+	}
+	return lists, texts
+}
+
+func wantNewMemory(t *testing.T, argument any, answers ...any) {
+	t.Helper()
+	lists, texts := regionsOf(answers...)
+	oldLists, oldTexts := regionsOf(argument)
+	wantApart(t, append(lists, oldLists...))
+	for _, a := range texts {
+		for _, b := range oldTexts {
+			if a.meets(b) {
+				t.Fatal("a name lies in an argument")
+			}
+		}
+	}
+}
+
+func TestLoweringGivesNewMemory(t *testing.T) {
+	calling := parsed(t, `node g(i: int; b: bool) returns (o: int; p: bool) let o = (0 fby i) + (1 fby o); p = not b; tel
+node f(x: int; c: bool) returns (z: int) var d: bool when c; u: int when c when d; a: int whenot c; b: bool whenot c;
+let d = (x > 0) when c; u = 4 fby (u + (5 fby 6)); a, b = g((2 fby x) whenot c, true fby (c whenot c)); z = merge c (merge d u 3) a; tel`)
+	programs := []impl.Program{calling, impl.Normalise(calling), parsed(t, deepNode("(0 fby u) + (1 fby x CLOCK)"))}
+	for seed := range int64(60) {
+		programs = append(programs, passing(seed))
+	}
+	for _, p := range programs {
+		if code, _, _ := impl.Check(p); code != impl.CheckOK {
+			t.Fatal("code", code)
+		}
+		wantNewMemory(t, p, impl.Normalise(p), impl.Normalise(p), impl.Order(p, 0), impl.Order(p, 0), impl.Translate(p), impl.Translate(p))
+		m := impl.Translate(p)
+		wantNewMemory(t, m, impl.Fuse(m), impl.Fuse(m))
+		f := impl.Fuse(m)
+		wantNewMemory(t, f, impl.Fuse(f))
+	}
+	wantNewMemory(t, everything(), impl.Fuse(everything()), impl.Fuse(everything()))
+	for seed := range int64(20) {
+		m := newMaker(seed).runningMachine()
+		lists, _ := regionsOf(impl.Fuse(m), impl.Fuse(m))
+		wantApart(t, lists)
+	}
+}
+
 func TestMachinesAndStatesStay(t *testing.T) {
 	for seed := range int64(500) {
 		maker := newMaker(seed)
 		m := maker.machine()
+		if seed%3 == 0 {
+			m = maker.runningMachine()
+		}
 		class := maker.Intn(len(m.Classes))
 		state, ins := maker.valuesFor(m, class)
 		if seed%2 == 0 {
@@ -129,12 +180,12 @@ func TestMachinesAndStatesStay(t *testing.T) {
 	}
 }
 
-// machineAnswers gives what all functions of chapter 3 answer.
+// machineAnswers gives what all functions of machines answer.
 func machineAnswers(m impl.Machine, class int, state, ins []int) []any {
 	after, outs, cost := impl.Step(m, class, state, ins)
 	text := impl.PrintMachine(m)
 	read, code := impl.ReadMachine(text)
-	return []any{impl.MachineOK(m), impl.Cells(m, class), impl.Bound(m, class), impl.Reset(m, class), after, outs, cost, text, read, code}
+	return []any{impl.MachineOK(m), impl.Cells(m, class), impl.Bound(m, class), impl.Reset(m, class), after, outs, cost, text, read, code, impl.Fuse(m)}
 }
 
 func TestArgumentsStay(t *testing.T) {
@@ -164,7 +215,8 @@ func TestArgumentsStay(t *testing.T) {
 func answersTo(p impl.Program, rows [][]int) []any {
 	code, node, place := impl.Check(p)
 	out, runCode := impl.Run(p, p.Nodes[0].Name, rows)
-	return []any{impl.ShapeOK(p), impl.Print(p), impl.Weight(p, 0), code, node, place, out, runCode}
+	return []any{impl.ShapeOK(p), impl.Print(p), impl.Weight(p, 0), code, node, place, out, runCode,
+		impl.Normalise(p), impl.Order(p, 0), impl.Translate(p)}
 }
 
 func TestConstants(t *testing.T) {
