@@ -156,6 +156,25 @@ let d = (x > 0) when c; u = 4 fby (u + (5 fby 6)); a, b = g((2 fby x) whenot c, 
 	}
 }
 
+func TestTextsAreNewMemory(t *testing.T) {
+	for seed := range int64(60) {
+		m := newMaker(seed)
+		p := withoutFreshNames(t, passing(seed))
+		n := pick(m, p.Nodes)
+		src, name, script := m.sourceOf(p), strings.Clone(n.Name), m.script(varTypes(n.Ins), 5, 4)
+		text, _, _ := impl.Compile(src, name)
+		again, _, _ := impl.Compile(src, name)
+		wantNewMemory(t, []string{src, name, script}, text, again, impl.Eval(src, name, script), impl.Eval(src, name+"q", script))
+		wantNewMemory(t, []string{text, script}, impl.Play(text, script), impl.Play(script, text))
+		if again != text || impl.Play(text, script) != impl.Play(text, script) || impl.Eval(src, name, script) != impl.Eval(src, name, script) {
+			t.Fatal("another answer the second time")
+		}
+	}
+	echo, _, _ := impl.Compile(echoInt, "f")
+	script := strings.Clone("12345\n")
+	wantNewMemory(t, []string{echo, script}, impl.Play(echo, script), impl.Eval(echoInt, "f", script))
+}
+
 func TestMachinesAndStatesStay(t *testing.T) {
 	for seed := range int64(500) {
 		maker := newMaker(seed)
@@ -234,6 +253,7 @@ func TestConstants(t *testing.T) {
 		impl.MaxClasses, impl.MaxSlots, impl.MaxStms, impl.MaxCode, impl.MaxCells, impl.MaxCost, impl.MaxNest,
 		impl.StmSet, impl.StmSave, impl.StmCall, impl.StmIf, impl.StmElse, impl.StmEnd,
 		impl.ReadOK, impl.ReadBad,
+		impl.MaxScript, impl.CompileOK, impl.CompileParse, impl.CompileCheck, impl.CompileName,
 	}
 	want := []int{20000, 40, 2147483647, 200, 500, 500, 3000, 8, 1, 2, 0, 1, 2, 3, 4}
 	for o := 1; o <= 25; o++ {
@@ -241,6 +261,7 @@ func TestConstants(t *testing.T) {
 	}
 	want = append(want, 20000, 1000, 0, 1, 2, 3, 4, 5, 6, 7, 8, 9, 0, 1, 2, 3)
 	want = append(want, 200, 1000, 30000, 6000, 20000, 400000, 20, 1, 2, 3, 4, 5, 6, 0, 1)
+	want = append(want, 100000, 0, 1, 2, 3)
 	if !reflect.DeepEqual(got, want) {
 		t.Error(got)
 	}
